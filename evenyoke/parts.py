@@ -50,3 +50,27 @@ def shared_bottom(parts):
     for part in parts:
         shared = shared // divisor_of(shared, part[1]) * part[1]
     return shared
+
+
+# As part_plus, of two fractions in lowest terms; but numbers are divided step by step only down from the lesser
+# bottom, where part_plus does it from the product of both.
+def plus_in_lowest(one, other):
+    shared = divisor_of(one[1], other[1])
+    top = one[0] * (other[1] // shared) + other[0] * (one[1] // shared)
+    # What divides the top and the product of the bottoms divides what the bottoms share.
+    extra = divisor_of(top, shared)
+    return (top // extra, one[1] // shared * (other[1] // extra))
+
+
+def sum_of_parts(parts):
+    total = (0, 1)
+    for part in parts:
+        total = plus_in_lowest(total, part)
+    return total
+
+
+# Whole numbers that stand to one another as the fractions do: less, equal or greater. Two fractions that are not
+# the same are at least 1 apart when multiplied by both bottoms, so the square of the greatest bottom parts all.
+def in_whole_numbers(parts):
+    greatest = max([part[1] for part in parts], default=1)
+    return [part[0] * greatest * greatest // part[1] for part in parts]

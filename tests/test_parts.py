@@ -3,10 +3,10 @@ from fractions import Fraction
 from math import gcd, lcm
 
 from evenyoke.errors import NoPart, YokeError
-from evenyoke.parts import divisor_of, is_below, part_less, part_of, part_plus, part_times, shared_bottom
-from tests.timed import TimedCase
+from evenyoke.parts import (divisor_of, in_whole_numbers, is_below, part_less, part_of, part_plus, part_times,
+                            shared_bottom, sum_of_parts)
+from tests.helpers import SIXTY, TimedCase
 
-SIXTY = int("9" * 60)
 GREAT = [SIXTY, -SIXTY, SIXTY - 1, int("123456" * 10), -int("7" * 59 + "2"), 10 ** 59]
 SMALL = list(range(-13, 14))
 
@@ -153,6 +153,36 @@ class TestSharedBottom(PartsCase):
         self.assertEqual(shared_bottom(parts), 420)
         parts.clear()
         self.assertEqual(shared_bottom(parts), 1)
+
+
+class TestSum(PartsCase):
+    def test_of_none_and_one(self):
+        self.assertPart(sum_of_parts([]), Fraction(0))
+        for part in some_parts():
+            self.assertEqual(sum_of_parts([part]), part)
+
+    def test_of_two(self):
+        for one in some_parts():
+            for other in some_parts():
+                self.assertEqual(sum_of_parts([one, other]), part_plus(one, other))
+
+    def test_of_many(self):
+        parts = some_parts()
+        for size in range(len(parts)):
+            self.assertPart(sum_of_parts(parts[:size]), sum((Fraction(*part) for part in parts[:size]), Fraction(0)))
+
+
+class TestInWholeNumbers(PartsCase):
+    def test_of_none(self):
+        self.assertEqual(in_whole_numbers([]), [])
+
+    def test_they_stand_as_the_fractions_do(self):
+        parts = some_parts() + [(1, SIXTY), (1, SIXTY - 1), (2, SIXTY), (-1, SIXTY), (-1, SIXTY - 1)]
+        numbers = in_whole_numbers(parts)
+        for one, first in zip(parts, numbers):
+            self.assertWhole(first)
+            for other, second in zip(parts, numbers):
+                self.assertEqual(first < second, is_below(one, other))
 
 
 if __name__ == "__main__":

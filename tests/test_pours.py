@@ -3,7 +3,7 @@ import unittest
 from itertools import product
 
 from evenyoke.pours import pour_all, pour_more
-from tests.timed import TimedCase
+from tests.helpers import TimedCase
 
 HUGE = 10 ** 300 - 1
 

@@ -57,20 +57,6 @@ class DealingCase(ChoresCase):
         self.assertDealing(works, doers, many, shares)
         return shares
 
-    def assertDealing(self, works, doers, many, shares):
-        """Point 11: shares that come to the works, the loads told ahead, and no unrest."""
-        self.assertRowsFit(doers, shares)
-        for row, work in zip(shares, works):
-            for share in row:
-                self.assertPartFromNought(share)
-            self.assertEqual(sum(fractions_of(row)), work)
-        loads = loads_by_rows(doers, many, [fractions_of(row) for row in shares])
-        self.assertEqual(loads, fractions_of(loads_by(works, doers, many)))
-        for hands, row in zip(doers, shares):
-            for hand, share in zip(hands, row):
-                if share[0] > 0:
-                    self.assertEqual(loads[hand], min(loads[other] for other in hands))
-
     def unrest(self, doers, many, shares):
         told = self.ask(unrest_of, doers, many, shares)
         if told is not None:

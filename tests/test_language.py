@@ -20,14 +20,24 @@ METHODS = """append clear copy count endswith extend find get index insert isaln
     rstrip setdefault split splitlines startswith strip update upper values zfill bit_length""".split()
 OF_PYTHON = {name for kind in (str, int, list, dict, set, bytes, tuple) for name in dir(kind)}
 UNDERSCORED = ["__init__", "__eq__", "__repr__", "__str__", "__len__"]
-WORDS = re.compile(r"\b(type|typing|typing_extensions|enum|Enum|IntEnum|StrEnum|Flag|IntFlag|Generic|Protocol|ABC|ABCMeta"
-                   r"|namedtuple|NamedTuple|TypedDict|TYPE_CHECKING|abstractmethod)\b|dataclass|overload|contextmanager")
+WORDS = re.compile(r"\b(type|typing|typing_extensions|enum|Enum|IntEnum|StrEnum|Flag|IntFlag|Generic|Protocol|ABC"
+                   r"|ABCMeta|namedtuple|NamedTuple|TypedDict|TYPE_CHECKING|abstractmethod)\b"
+                   r"|dataclass|overload|contextmanager")
 NOWHERE = ["register", "mro", "elements", "open", "input", "version_info", "with_traceback", "add_note", "format",
            "format_map"]
 
 
 def package_files():
     return sorted(PACKAGE.glob("*.py"))
+
+
+def is_call_of(node, *names):
+    return isinstance(node, ast.Call) and isinstance(node.func, ast.Name) and node.func.id in names
+
+
+def is_view(node):
+    return (isinstance(node, ast.Call) and isinstance(node.func, ast.Attribute)
+            and node.func.attr in ("items", "keys", "values"))
 
 
 class TestLanguage(unittest.TestCase):
@@ -137,6 +147,58 @@ class TestLanguage(unittest.TestCase):
             for module in reached:
                 reached.extend(more for more in draws.get(module, []) if more not in reached)
             self.assertNotIn(start, reached)
+
+    def test_names_are_drawn_from_the_file_that_defines_them(self):
+        trees = {"evenyoke." + path.stem: tree for path, tree in self.each_tree()}
+        for node in self.each_node(ast.ImportFrom):
+            own = [top.name for top in trees[node.module].body if isinstance(top, (ast.FunctionDef, ast.ClassDef))]
+            own += [top.targets[0].id for top in trees[node.module].body if isinstance(top, ast.Assign)]
+            for name in node.names:
+                self.assertIn(name.name, own)
+                self.assertIsNone(name.asname)
+
+    def test_each_name_of_a_file_is_bound_once_and_to_no_local(self):
+        for path, tree in self.each_tree():
+            tops = [name.name for node in tree.body if isinstance(node, ast.ImportFrom) for name in node.names]
+            tops += [node.name for node in tree.body if isinstance(node, (ast.FunctionDef, ast.ClassDef))]
+            tops += [node.targets[0].id for node in tree.body if isinstance(node, ast.Assign)]
+            self.assertEqual(len(tops), len(set(tops)), path.name)
+            for function in ast.walk(tree):
+                if isinstance(function, (ast.FunctionDef, ast.Lambda)):
+                    names = [node.id for node in ast.walk(function)
+                             if isinstance(node, ast.Name) and isinstance(node.ctx, ast.Store)]
+                    names += [node.arg for node in ast.walk(function) if isinstance(node, ast.arg)]
+                    self.assertEqual(set(names) & set(tops), set(), path.name)
+
+    def test_no_name_is_a_method_and_a_value(self):
+        methods = [node.name for kind in self.each_node(ast.ClassDef) for node in kind.body
+                   if isinstance(node, ast.FunctionDef)]
+        given = [node.attr for node in self.each_node(ast.Attribute) if isinstance(node.ctx, ast.Store)]
+        self.assertEqual(set(methods) & set(given), set())
+        self.assertEqual(set(given) & OF_PYTHON, set())
+
+    def test_sets_are_asked_on_the_spot_alone(self):
+        for parent in self.each_node(ast.AST):
+            for node in ast.iter_child_nodes(parent):
+                if isinstance(node, ast.Set) or is_call_of(node, "set", "frozenset"):
+                    self.assertTrue(isinstance(parent, (ast.Compare, ast.BinOp)) or is_call_of(parent, "len", "sorted"))
+
+    def test_no_percent_sign_in_texts(self):
+        for node in self.each_node(ast.Constant):
+            self.assertFalse(isinstance(node.value, str) and "%" in node.value, node.lineno)
+
+    def test_f_strings_hold_plain_names(self):
+        for node in self.each_node(ast.FormattedValue):
+            self.assertIsInstance(node.value, ast.Name)
+            self.assertIsNone(node.format_spec)
+
+    def test_what_is_walked_is_walked_on_the_spot(self):
+        for parent in self.each_node(ast.AST):
+            for node in ast.iter_child_nodes(parent):
+                if is_call_of(node, "zip", "enumerate", "reversed", "range") or is_view(node):
+                    walked = isinstance(parent, (ast.For, ast.comprehension)) and parent.iter is node
+                    self.assertTrue(walked or is_call_of(parent, "list", "tuple", "dict", "sorted", "sum", "any", "all",
+                                                         "enumerate", "zip", "min", "max"), node.lineno)
 
 
 if __name__ == "__main__":

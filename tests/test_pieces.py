@@ -3,7 +3,7 @@ import unittest
 
 from evenyoke.crowds import loads_by
 from evenyoke.pieces import deal_pieces
-from tests.helpers import SIXTY, ChoresCase, loads_by_rows, some_chores, steep_chores, wide_chores
+from tests.helpers import SIXTY, ChoresCase, some_chores, steep_chores, wide_chores
 
 
 class PiecesCase(ChoresCase):
@@ -11,18 +11,6 @@ class PiecesCase(ChoresCase):
         pieces = self.ask(deal_pieces, works, doers, many)
         self.assertPieces(works, doers, many, pieces)
         return pieces
-
-    def assertPieces(self, works, doers, many, pieces):
-        """Point 13, all that it says."""
-        self.assertRowsFit(doers, pieces)
-        for row, work in zip(pieces, works):
-            for number in row:
-                self.assertWhole(number)
-                self.assertGreaterEqual(number, 0)
-            self.assertEqual(sum(row), work)
-        for got, load in zip(loads_by_rows(doers, many, pieces), loads_by(works, doers, many)):
-            down = load[0] // load[1]
-            self.assertIn(got, (down, down if load[1] == 1 else down + 1))
 
 
 class TestPieces(PiecesCase):

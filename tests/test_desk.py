@@ -39,6 +39,7 @@ class DeskCase(HouseCase):
             told = desk.say(line)
             self.assertIs(type(told), str)
             self.assertEqual((line, told), (line, answer))
+            self.assertNotIn("-", told)
 
 
 class TestLines(DeskCase):
@@ -225,7 +226,10 @@ class TestBesideAHouse(DeskCase):
                     self.assertRefused(error, desk.say, line)
                     self.assertRefused(error, desk.say, "try " + line)
                 else:
-                    self.assertEqual(desk.say("try " + line), desk.say(line))
+                    told = desk.say("try " + line)
+                    self.assertEqual(desk.say(line), told)
+                    # No load is below 0.
+                    self.assertNotIn("-", told)
                     book.note(deed)
             self.assertHouse(desk.house, book)
             self.assertAnswers(desk)
